@@ -1,0 +1,1 @@
+"""Likesums: boards of numbers whose lines all have one sum."""
