@@ -5,16 +5,20 @@ from likesums.errors import BadBoard
 LARGEST_SIZE = 12
 
 
-# The refusals name no number that was handed in: it may be too long to be written out.
 def check_board(board):
+    check_square(board, LARGEST_SIZE)
+    if sorted(joined(board)) != list(range(1, len(board) * len(board) + 1)):
+        raise BadBoard("a board has each number from 1 to the count of its cells once")
+
+
+# The refusals name no number that was handed in: it may be too long to be written out.
+def check_square(board, largest):
     size = len(board)
-    if size < 1 or size > LARGEST_SIZE:
-        raise BadBoard(f"a board has from 1 to {LARGEST_SIZE} rows")
+    if size < 1 or size > largest:
+        raise BadBoard(f"the board must have from 1 to {largest} rows")
     for row in board:
         if len(row) != size:
-            raise BadBoard("a board has as many columns as rows")
-    if sorted(joined(board)) != list(range(1, size * size + 1)):
-        raise BadBoard("a board has each number from 1 to the count of its cells once")
+            raise BadBoard("the board must have as many columns as rows")
 
 
 def joined(lists):
@@ -28,26 +32,26 @@ def column(board, place):
     return [row[place] for row in board]
 
 
-def sums(board):
-    check_board(board)
-    return (row_sums(board), column_sums(board), long_way_sums(board))
+def columns(board):
+    return [column(board, place) for place in range(len(board))]
 
 
-def row_sums(board):
-    return [sum(row) for row in board]
-
-
-def column_sums(board):
-    return [sum(column(board, place)) for place in range(len(board))]
-
-
-def long_way_sums(board):
+def long_ways(board):
     last = len(board) - 1
     falling = [board[k][k] for k in range(len(board))]
     rising = [board[k][last - k] for k in range(len(board))]
-    return [sum(falling), sum(rising)]
+    return [falling, rising]
+
+
+def line_sums(lines):
+    return [sum(line) for line in lines]
+
+
+def sums(board):
+    check_board(board)
+    return (line_sums(board), line_sums(columns(board)), line_sums(long_ways(board)))
 
 
 def is_like(board):
-    line_sums = joined(sums(board))
-    return min(line_sums) == max(line_sums)
+    every_sum = joined(sums(board))
+    return min(every_sum) == max(every_sum)

@@ -1,12 +1,12 @@
 """Moves: boards turned, mirrored, counted down and arranged, and the kin of a board."""
 
-from likesums.boards import check_board, column
+from likesums.boards import check_board, columns
 from likesums.errors import BadOrder
 
 
 def turned(board):
     check_board(board)
-    return [list(reversed(column(board, place))) for place in range(len(board))]
+    return [list(reversed(line)) for line in columns(board)]
 
 
 def mirrored(board):

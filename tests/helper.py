@@ -54,6 +54,38 @@ def sample_boards():
     return like_boards() + [counted(size) for size in range(1, 13)]
 
 
+def is_like_by_hand(board):
+    """Points 2 and 3 reckoned cell by cell, by nothing of the program."""
+    size = len(board)
+    places = range(size)
+    if sorted(number for row in board for number in row) != list(range(1, size * size + 1)):
+        return False
+    found = [sum(board[r][c] for c in places) for r in places]
+    found.extend(sum(board[r][c] for r in places) for c in places)
+    found.append(sum(board[k][k] for k in places))
+    found.append(sum(board[k][size - 1 - k] for k in places))
+    return len(set(found)) == 1 and all(len(row) == size for row in board)
+
+
+def some_fair_orders(size):
+    """Three fair orders of any size: as it is, the other way about, and one that is neither."""
+    plain = list(range(size))
+    mixed = list(range(size))
+    for k in range(size // 2):
+        source = (k + 1) % (size // 2)
+        mixed[k] = source if k % 2 else size - 1 - source
+        mixed[size - 1 - k] = size - 1 - mixed[k]
+    return [plain, plain[::-1], mixed]
+
+
+def opened(board, cells):
+    """The board with nought at the cells."""
+    other = copy.deepcopy(board)
+    for r, c in cells:
+        other[r][c] = 0
+    return other
+
+
 def changed(board, r, c, number):
     spoilt = copy.deepcopy(board)
     spoilt[r][c] = number
@@ -128,6 +160,13 @@ class Case(unittest.TestCase):
         self.assertIsInstance(error, ValueError)
         self.assertEqual([other for other in REFUSALS if isinstance(error, other)], [kind])
         self.assertEqual(handed, before)
+
+    def assert_board(self, value, size):
+        """The kinds: a list of lists of whole numbers, with as many rows and columns as told."""
+        self.assertIs(type(value), list)
+        self.assertEqual([type(row) for row in value], [list] * size)
+        self.assertEqual([len(row) for row in value], [size] * size)
+        self.assertEqual({type(number) for row in value for number in row}, {int})
 
     def assert_all_spoilt_refused(self, function, *rest):
         for words, board in spoilt_boards():

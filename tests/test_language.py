@@ -5,6 +5,7 @@ Only the rules that can be read off the files one by one are looked at here.
 
 import ast
 import builtins
+import itertools
 import pathlib
 import re
 import unittest
@@ -29,6 +30,11 @@ METHODS = set(
     "append clear copy count endswith extend find get index insert isalnum isalpha isdigit islower isspace "
     "isupper items join keys ljust lower lstrip partition pop remove replace reverse rfind rjust rpartition "
     "rsplit rstrip setdefault split splitlines startswith strip update upper values zfill bit_length".split()
+)
+NAMES_OUT = set(
+    "register mro elements open input version_info with_traceback add_note attrgetter breakpoint builtins compile "
+    "copyright credits delattr dir eval exec exit gc getattr globals hasattr help id importlib license locals "
+    "methodcaller os quit setattr super type vars sys __name__".split()
 )
 WORDS_OUT = (
     r"\b(type|typing|typing_extensions|enum|Enum|IntEnum|StrEnum|Flag|IntFlag|Generic|Protocol|ABC|ABCMeta|"
@@ -56,11 +62,29 @@ def bound_names(node):
     return []
 
 
+def names_in(node):
+    if isinstance(node, ast.Name):
+        return [node.id]
+    if isinstance(node, ast.Attribute):
+        return [node.attr]
+    return bound_names(node)
+
+
+def drawn_from():
+    """The modules that each module draws from."""
+    drawn = {path.stem: set() for path in files()}
+    for path in files():
+        for node in ast.parse(path.read_text(encoding="utf-8")).body:
+            if isinstance(node, ast.ImportFrom):
+                drawn[path.stem].add(node.module.split(".")[1])
+    return drawn
+
+
 class Language(unittest.TestCase):
     def test_there_are_files(self):
         names = [path.name for path in files()]
-        for name in ("__init__.py", "errors.py", "boards.py", "moves.py"):
-            self.assertIn(name, names)
+        for name in ("__init__", "errors", "boards", "moves", "laying", "weaving", "filling"):
+            self.assertIn(f"{name}.py", names)
 
     def test_files_and_signs(self):
         for path in files():
@@ -130,3 +154,60 @@ class Language(unittest.TestCase):
         for place, node in nodes():
             if isinstance(node, ast.Call) and isinstance(node.func, ast.Attribute):
                 self.assertIn(node.func.attr, METHODS | own, place)
+
+    def test_names_that_are_not_used(self):
+        for place, node in nodes():
+            for name in names_in(node):
+                self.assertNotIn(name, NAMES_OUT, place)
+
+    def test_is_stands_beside_plain_values_alone(self):
+        for place, node in nodes():
+            if isinstance(node, ast.Compare) and any(isinstance(op, (ast.Is, ast.IsNot)) for op in node.ops):
+                self.assertIsInstance(node.comparators[-1], ast.Constant, place)
+                self.assertIn(node.comparators[-1].value, (None, True, False), place)
+
+    def test_no_local_is_called_like_a_name_of_the_top(self):
+        for path in files():
+            tree = ast.parse(path.read_text(encoding="utf-8"))
+            top = [name for part in tree.body for name in bound_names(part)]
+            for part in tree.body:
+                if isinstance(part, ast.ImportFrom):
+                    top.extend(alias.name for alias in part.names)
+                if isinstance(part, ast.Assign):
+                    top.extend(target.id for target in part.targets)
+            self.assertEqual(len(set(top)), len(top), path.name)
+            for part in tree.body:
+                if isinstance(part, ast.FunctionDef):
+                    for node in itertools.chain(*(ast.walk(inner) for inner in [part.args] + part.body)):
+                        for name in bound_names(node):
+                            self.assertNotIn(name, top, f"{path.name}: {part.name}")
+
+    def test_the_top_of_a_module(self):
+        kinds = (ast.FunctionDef, ast.ClassDef, ast.ImportFrom)
+        for path in files():
+            for place, part in enumerate(ast.parse(path.read_text(encoding="utf-8")).body):
+                if isinstance(part, ast.Assign):
+                    ast.literal_eval(part.value)
+                elif place > 0 or not isinstance(part, ast.Expr):
+                    self.assertIsInstance(part, kinds, path.name)
+
+    def test_no_two_modules_draw_from_one_another(self):
+        drawn = drawn_from()
+        left = set(drawn)
+        while left:
+            free = {name for name in left if not drawn[name] & left}
+            self.assertNotEqual(free, set(), left)
+            left -= free
+
+    def test_names_come_from_the_file_that_defines_them(self):
+        defined = {}
+        for path in files():
+            body = ast.parse(path.read_text(encoding="utf-8")).body
+            names = [name for part in body for name in bound_names(part)]
+            names.extend(target.id for part in body if isinstance(part, ast.Assign) for target in part.targets)
+            defined[path.stem] = names
+        for place, node in nodes():
+            if isinstance(node, ast.ImportFrom):
+                for alias in node.names:
+                    self.assertIsNone(alias.asname, place)
+                    self.assertIn(alias.name, defined[node.module.split(".")[1]], place)

@@ -8,7 +8,7 @@ from likesums.boards import is_like
 from likesums.errors import BadBoard, BadOrder
 from likesums.moves import arranged, counted_down, first_kin, kin, mirrored, turned
 from tests.helper import FOUR, SIX, THREE, Case, counted, fourfold_like, like_boards, lists_in, odd_like
-from tests.helper import sample_boards, spoilt_boards
+from tests.helper import sample_boards, some_fair_orders, spoilt_boards
 
 OF_A_BOARD = (turned, mirrored, counted_down, kin, first_kin)
 
@@ -20,17 +20,6 @@ def fair_orders(size):
         for order in itertools.permutations(range(size))
         if all(order[k] + order[size - 1 - k] == size - 1 for k in range(size))
     ]
-
-
-def some_fair_orders(size):
-    """Three fair orders of any size: as it is, the other way about, and one that is neither."""
-    plain = list(range(size))
-    mixed = list(range(size))
-    for k in range(size // 2):
-        source = (k + 1) % (size // 2)
-        mixed[k] = source if k % 2 else size - 1 - source
-        mixed[size - 1 - k] = size - 1 - mixed[k]
-    return [plain, plain[::-1], mixed]
 
 
 class OneBoard(Case):
